@@ -1,0 +1,1 @@
+"""Shorthead: heads of letters, pressed by what both ends remember."""

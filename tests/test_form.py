@@ -1,0 +1,97 @@
+"""The rules of the package's form that can be seen by a plain look at its files."""
+
+import ast
+import builtins
+import pathlib
+import re
+import unittest
+
+PACKAGE = pathlib.Path(__file__).resolve().parent.parent / "shorthead"
+
+WORDS = (
+    "type typing typing_extensions enum Enum IntEnum StrEnum Flag IntFlag Generic Protocol ABC ABCMeta namedtuple "
+    "NamedTuple TypedDict TYPE_CHECKING abstractmethod"
+).split()
+WITHIN_WORDS = ("dataclass", "overload", "contextmanager")
+
+OWN_OF_PYTHON = set(
+    "len range enumerate zip min max sum abs sorted reversed int str bool bytes list tuple dict set frozenset isinstance "
+    "ord repr any all divmod Exception ValueError TypeError KeyError IndexError LookupError ZeroDivisionError "
+    "ArithmeticError OverflowError RuntimeError NotImplementedError AttributeError StopIteration".split()
+)
+
+NOT_USED = (
+    ast.With, ast.Match, ast.Global, ast.Nonlocal, ast.Yield, ast.YieldFrom, ast.Await, ast.AsyncFor, ast.AsyncWith,
+    ast.AsyncFunctionDef, ast.GeneratorExp, ast.NamedExpr, ast.Div, ast.MatMult, ast.Import,
+)
+
+
+def files():
+    return sorted(path for path in PACKAGE.rglob("*") if "__pycache__" not in path.parts)
+
+
+def nodes():
+    for path in files():
+        for node in ast.walk(ast.parse(path.read_text(encoding="ascii"))):
+            yield path.name, node
+
+
+class Files(unittest.TestCase):
+    def test_nothing_but_python_files_with_plain_names(self):
+        for path in files():
+            self.assertRegex(path.name, r"\A[a-z0-9_]+\.py\Z")
+
+    def test_signs_rows_and_sizes(self):
+        for path in files():
+            text = path.read_bytes().decode("ascii")
+            self.assertRegex(text, r"\A[ -~\n]*\Z", path.name)
+            rows = text.split("\n")
+            self.assertLessEqual(len(rows), 400, path.name)
+            self.assertLessEqual(max(len(row) for row in rows), 120, path.name)
+
+    def test_words_that_stand_nowhere(self):
+        found = re.compile(r"\b(" + "|".join(WORDS) + r")\b|" + "|".join(WITHIN_WORDS))
+        for path in files():
+            self.assertIsNone(found.search(path.read_text(encoding="ascii")), path.name)
+
+
+class Rows(unittest.TestCase):
+    def test_kinds_of_rows_and_signs(self):
+        for name, node in nodes():
+            self.assertNotIsInstance(node, NOT_USED, name)
+            if isinstance(node, ast.Constant):
+                self.assertNotIsInstance(node.value, (float, complex), name)
+                if isinstance(node.value, str):
+                    self.assertNotIn("%", node.value, name)
+            if isinstance(node, ast.BinOp) and isinstance(node.op, ast.Pow):
+                self.assertIsInstance(node.right, ast.Constant, name)
+
+    def test_imports_are_of_the_package(self):
+        for name, node in nodes():
+            if isinstance(node, ast.ImportFrom):
+                self.assertEqual(node.level, 0, name)
+                self.assertRegex(node.module, r"\A(shorthead\.[a-z_]+|__future__)\Z", name)
+                self.assertNotIn("*", [alias.name for alias in node.names], name)
+
+    def test_defs_are_small_and_plain(self):
+        for name, node in nodes():
+            if isinstance(node, ast.FunctionDef):
+                self.assertLessEqual(node.end_lineno - node.lineno + 1, 40, (name, node.name))
+                self.assertIsNone(node.args.vararg or node.args.kwarg, (name, node.name))
+                self.assertEqual(node.args.posonlyargs, [], (name, node.name))
+            if isinstance(node, (ast.FunctionDef, ast.ClassDef)):
+                self.assertEqual(node.decorator_list, [], (name, node.name))
+
+    def test_names(self):
+        for name, node in nodes():
+            if isinstance(node, ast.Name):
+                self.assertFalse(node.id.startswith("_"), (name, node.id))
+                if hasattr(builtins, node.id):
+                    self.assertIn(node.id, OWN_OF_PYTHON, name)
+                    self.assertIsInstance(node.ctx, ast.Load, (name, node.id))
+            if isinstance(node, ast.arg):
+                self.assertFalse(node.arg.startswith("_") or hasattr(builtins, node.arg), (name, node.arg))
+
+
+if __name__ == "__main__":
+    unittest.main()
