@@ -2,34 +2,7 @@ import itertools
 import unittest
 
 from shorthead.bits import are_bits, bits_of, number_of, width_for
-
-
-def nested(kind, thing, deep):
-    for _ in range(deep):
-        thing = kind([thing])
-    return thing
-
-
-class Lying:
-    """A thing that claims to be like all others, and like the bits."""
-
-    def __eq__(self, other):
-        return True
-
-    def __iter__(self):
-        return iter("01")
-
-    def __len__(self):
-        return 2
-
-
-OTHERS = (
-    None, True, False, 0, 1, 10, -1, 10 ** 29, 0.0, 1.0, 1j, b"", b"01", bytearray(b"01"), memoryview(b"01"),
-    [], ["0"], ["0", "1"], (), ("0",), ("0", "1"), {}, {"0": "1"}, {0: 1}, set(), {"0"}, frozenset("01"),
-    range(2), iter("01"), object(), Lying(), Lying, str, len, lambda: "01", Ellipsis, NotImplemented, ValueError("01"),
-    [["0"], "1"], (("0",), ("1",)), {"0": ["1", {"1": ()}]}, [None, (True, [b"0"])],
-    nested(list, "01", 60), nested(tuple, "01", 60), nested(tuple, "", 60),
-)
+from tests.others import OTHERS
 
 
 class AreBits(unittest.TestCase):

@@ -30,6 +30,21 @@ def files():
     return sorted(path for path in PACKAGE.rglob("*") if "__pycache__" not in path.parts)
 
 
+def trees():
+    return {path.stem: ast.parse(path.read_text(encoding="ascii")) for path in files()}
+
+
+def defined(tree):
+    """The names of the defs and classes at a file's top."""
+    return [row.name for row in tree.body if isinstance(row, (ast.FunctionDef, ast.ClassDef))]
+
+
+def drawn_from(tree):
+    """(file, name) for each name that a file imports."""
+    rows = [row for row in tree.body if isinstance(row, ast.ImportFrom)]
+    return [(row.module.removeprefix("shorthead."), alias.name) for row in rows for alias in row.names]
+
+
 def nodes():
     for path in files():
         for node in ast.walk(ast.parse(path.read_text(encoding="ascii"))):
@@ -72,6 +87,35 @@ class Rows(unittest.TestCase):
                 self.assertEqual(node.level, 0, name)
                 self.assertRegex(node.module, r"\A(shorthead\.[a-z_]+|__future__)\Z", name)
                 self.assertNotIn("*", [alias.name for alias in node.names], name)
+
+    def test_imports_are_drawn_from_the_file_that_defines_them_and_are_used(self):
+        for stem, tree in trees().items():
+            used = {node.id for node in ast.walk(tree) if isinstance(node, ast.Name)}
+            used |= {base.id for node in ast.walk(tree) if isinstance(node, ast.ClassDef) for base in node.bases}
+            for module, name in drawn_from(tree):
+                self.assertIn(name, defined(trees()[module]), stem)
+                self.assertIn(name, used, stem)
+
+    def test_no_two_files_draw_from_one_another(self):
+        left = {stem: {module for module, _ in drawn_from(tree)} for stem, tree in trees().items()}
+        while left:
+            free = [stem for stem, modules in left.items() if not modules & set(left)]
+            self.assertTrue(free, left)
+            for stem in free:
+                del left[stem]
+
+    def test_each_name_is_defined_once_in_the_package(self):
+        names = [name for tree in trees().values() for name in defined(tree)]
+        self.assertEqual(sorted(set(names)), sorted(names))
+
+    def test_no_local_is_called_like_a_name_of_its_files_top(self):
+        for stem, tree in trees().items():
+            top = set(defined(tree)) | {name for _, name in drawn_from(tree)}
+            for node in ast.walk(tree):
+                if isinstance(node, ast.arg):
+                    self.assertNotIn(node.arg, top, stem)
+                if isinstance(node, ast.Name) and isinstance(node.ctx, ast.Store):
+                    self.assertNotIn(node.id, top, stem)
 
     def test_defs_are_small_and_plain(self):
         for name, node in nodes():

@@ -18,6 +18,26 @@ FUNCTIONS = {
         "narrowest": ["w", "below", "bases", "value"],
         "tightest": ["w", "offsets"],
     },
+    "shapes": {
+        "is_shape": ["thing"],
+        "is_head": ["shape", "thing"],
+        "expected": ["shape", "place", "former", "ahead", "more"],
+        "check_of": ["shape", "number", "head"],
+    },
+    "forms": {
+        "is_form": ["shape", "thing"],
+        "pieces": ["shape", "form", "head"],
+        "size_of": ["shape", "form"],
+        "opened": ["shape", "form", "bits", "former", "more"],
+        "sure": ["shape", "form", "head", "formers"],
+    },
+    "doubts": {
+        "doubt": ["shape", "form", "head", "formers"],
+        "shows_doubt": ["shape", "form", "head", "formers", "thing"],
+    },
+    "pacts": {
+        "is_pact": ["thing"],
+    },
 }
 
 
