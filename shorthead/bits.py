@@ -24,6 +24,16 @@ def number_of(bits):
     return number
 
 
+def numbers_of(bits, widths):
+    """The list of the numbers that bits write one behind another, each by its width."""
+    numbers = []
+    begin = 0
+    for width in widths:
+        numbers.append(number_of(bits[begin:begin + width]))
+        begin = begin + width
+    return numbers
+
+
 def width_for(many):
     """The least width that writes so many unlike numbers."""
     width = 0

@@ -6,20 +6,19 @@ from shorthead.things import is_between, is_row, is_whole
 
 def doubt(shape, form, head, formers):
     """None where the form is sure of the head, else (k, place, value) for the first of formers that opens another."""
-    for k in range(len(formers)):
-        found = doubt_by(shape, form, head, formers, k)
-        if found is not None:
-            return found
+    bits = pieces(shape, form, head)
+    for k, (more, former) in enumerate(formers):
+        other = first_other(head, opened(shape, form, bits, former, more))
+        if other is not None:
+            return (k,) + other
     return None
 
 
-def doubt_by(shape, form, head, formers, k):
-    """(k, place, value): the first place, and the value there, that the k-th of formers opens otherwise, or None."""
-    more, former = formers[k]
-    told = opened(shape, form, pieces(shape, form, head), former, more)
+def first_other(head, told):
+    """(place, value): the first place, and the value there, that the head that is told has otherwise, or None."""
     for place, value in enumerate(told):
         if value != head[place]:
-            return (k, place, value)
+            return (place, value)
     return None
 
 
@@ -29,4 +28,6 @@ def shows_doubt(shape, form, head, formers, thing):
         return False
     if not is_between(thing[0], 0, len(formers) - 1):
         return False
-    return thing == doubt_by(shape, form, head, formers, thing[0])
+    more, former = formers[thing[0]]
+    told = opened(shape, form, pieces(shape, form, head), former, more)
+    return thing[1:] == first_other(head, told)

@@ -1,6 +1,6 @@
 """Forms, which tell how much of each field goes into a letter, and how a head is opened again."""
 
-from shorthead.bits import bits_of, number_of
+from shorthead.bits import bits_of, numbers_of
 from shorthead.shapes import breadths, expected
 from shorthead.things import is_between, is_row, is_value, is_worded
 from shorthead.windows import around, rest_of
@@ -58,13 +58,10 @@ def size_of(shape, form):
 def opened(shape, form, bits, former, more):
     """The head that these bits tell by a head so many letters ago."""
     head = ()
-    begin = 0
-    for place, width in enumerate(widths(shape, form)):
-        rest = number_of(bits[begin:begin + width])
+    for place, rest in enumerate(numbers_of(bits, widths(shape, form))):
         # What is expected hangs on the fields ahead as they are opened: the new head itself isn't known here.
         base = expected(shape, place, former, head, more)
         head = head + (value_told(form[2][place], shape[0][place][1], base, rest),)
-        begin = begin + width
     return head
 
 

@@ -3,6 +3,8 @@
 import random
 import string
 
+from shorthead.shapes import expected
+
 KINDS = (
     ("serial", 8, ("step", 3)),
     ("lamp", 4, ("turn", (9, 2, 5))),
@@ -75,3 +77,46 @@ def some_pact(drawn):
 
 def source(number):
     return random.Random(number)
+
+
+def likely_way(drawn, breadth):
+    """A way by which a field that goes as it is expected to, or nearly so, is told in few bits."""
+    word = drawn.choice(("keep", "keep", "keep", "low", "whole"))
+    if word != "low":
+        return (word,)
+    width = drawn.randint(1, min(breadth, 4))
+    return (word, width, drawn.randrange(2 ** width))
+
+
+def likely_pact(drawn, late=4, anews=(0, 0, 1, 2, 5, 17, 40)):
+    """A pact of few fields whose forms often may go, by roads that lose and overtake now and then."""
+    shape = (some_shape(drawn, 10)[0][:drawn.randint(1, 4)], drawn.choice((1, 2, 3, 50, 10 ** 6)))
+    forms = []
+    for _ in range(drawn.choice((0, 1, 2, 3, 3, 5, 12))):
+        ways = tuple(likely_way(drawn, breadth) for _, breadth, _ in shape[0])
+        forms.append((drawn.choice((1, 2, 3, 5, 9, 40)), drawn.choice((1, 2, 3, 3, 4, 5, 9)), ways))
+    skips = drawn.choice((0, 0, 1, 2, 3))
+    road = (skips, skips + drawn.choice((0, 0, 1, 3, 9)), drawn.randint(0, late), drawn.choice(anews))
+    return (shape, drawn.choice((9, 12, 20, 40)), tuple(forms), road)
+
+
+def next_head(drawn, shape, former):
+    """A head that goes on from a former one, mostly as each field is expected to."""
+    head = ()
+    for place, (_, breadth, _) in enumerate(shape[0]):
+        value = expected(shape, place, former, head, 1)
+        chance = drawn.randrange(24)
+        if chance == 0:
+            value = drawn.randrange(2 ** breadth)
+        elif chance < 3:
+            value = (value + drawn.randint(-2, 3)) % 2 ** breadth
+        head += (value,)
+    return head
+
+
+def some_heads(drawn, shape, many):
+    """So many heads in a row, each going on from the one ahead."""
+    heads = [some_head(drawn, shape)]
+    while len(heads) < many:
+        heads.append(next_head(drawn, shape, heads[-1]))
+    return heads[:many]

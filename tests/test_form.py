@@ -20,6 +20,13 @@ OWN_OF_PYTHON = set(
     "ArithmeticError OverflowError RuntimeError NotImplementedError AttributeError StopIteration".split()
 )
 
+# The methods of Python's own values that may stand.
+LISTED = set(
+    "append clear copy count endswith extend find get index insert isalnum isalpha isdigit islower isspace isupper items "
+    "join keys ljust lower lstrip partition pop remove replace reverse rfind rjust rpartition rsplit rstrip setdefault "
+    "split splitlines startswith strip update upper values zfill bit_length __init__".split()
+)
+
 NOT_USED = (
     ast.With, ast.Match, ast.Global, ast.Nonlocal, ast.Yield, ast.YieldFrom, ast.Await, ast.AsyncFor, ast.AsyncWith,
     ast.AsyncFunctionDef, ast.GeneratorExp, ast.NamedExpr, ast.Div, ast.MatMult, ast.Import,
@@ -135,6 +142,57 @@ class Rows(unittest.TestCase):
                     self.assertIsInstance(node.ctx, ast.Load, (name, node.id))
             if isinstance(node, ast.arg):
                 self.assertFalse(node.arg.startswith("_") or hasattr(builtins, node.arg), (name, node.arg))
+
+
+class Objects(unittest.TestCase):
+    def methods(self):
+        classes = [node for _, node in nodes() if isinstance(node, ast.ClassDef)]
+        return [(node.name, row.name) for node in classes for row in node.body if isinstance(row, ast.FunctionDef)]
+
+    def values(self):
+        """The names of the values that objects are given."""
+        return {node.attr for _, node in nodes() if isinstance(node, ast.Attribute) and isinstance(node.ctx, ast.Store)}
+
+    def test_no_name_is_a_method_and_a_value(self):
+        self.assertEqual(self.values() & {method for _, method in self.methods()}, set())
+
+    def test_no_method_stands_twice_in_a_class(self):
+        self.assertEqual(len(set(self.methods())), len(self.methods()))
+
+    def test_methods_and_values_are_not_called_like_those_of_pythons_own(self):
+        pythons = {name for kind in (str, int, list, tuple, dict, set, frozenset, bytes) for name in dir(kind)}
+        own = self.values() | {method for _, method in self.methods()}
+        self.assertEqual(own & pythons, {"__init__"})
+
+    def test_what_is_asked_of_a_thing_is_there(self):
+        known = self.values() | {method for _, method in self.methods()} | LISTED
+        for name, node in nodes():
+            if isinstance(node, ast.Attribute):
+                self.assertIn(node.attr, known, name)
+
+    def test_values_are_given_when_an_object_is_made(self):
+        for name, node in nodes():
+            if isinstance(node, ast.ClassDef):
+                given = {row.name: self.given_in(row) for row in node.body if isinstance(row, ast.FunctionDef)}
+                for method, values in given.items():
+                    self.assertLessEqual(values, given["__init__"], (name, node.name, method))
+
+    def given_in(self, method):
+        return {node.attr for node in ast.walk(method)
+                if isinstance(node, ast.Attribute) and isinstance(node.ctx, ast.Store)}
+
+    def test_errors_are_made_where_they_are_raised(self):
+        for name, node in nodes():
+            if isinstance(node, ast.Raise) and node.exc is not None:
+                self.assertIsInstance(node.exc, ast.Call, name)
+                self.assertIn(node.exc.func.id, defined(trees()["errors"]), name)
+
+    def test_is_stands_beside_none_true_and_false_alone(self):
+        for name, node in nodes():
+            if isinstance(node, ast.Compare):
+                for sign, right in zip(node.ops, node.comparators):
+                    if isinstance(sign, (ast.Is, ast.IsNot)):
+                        self.assertIsInstance(right, ast.Constant, name)
 
 
 if __name__ == "__main__":

@@ -38,19 +38,77 @@ FUNCTIONS = {
     "pacts": {
         "is_pact": ["thing"],
     },
+    "letters": {
+        "letter_size": ["pact", "at"],
+        "whole_letter": ["pact", "number", "head"],
+        "pressed_letter": ["pact", "at", "number", "head"],
+        "parted": ["pact", "letter"],
+    },
+    "readers": {
+        "word_of": ["told"],
+    },
+}
+
+CLASSES = {
+    "pressers": {
+        "Presser": {
+            "__init__": ["pact"],
+            "press": ["head"],
+            "heard": ["word"],
+            "sent": [],
+            "known": [],
+            "formers": ["reach"],
+            "why_not": ["head", "at"],
+            "usable": ["head"],
+        },
+    },
+    "readers": {
+        "Reader": {
+            "__init__": ["pact"],
+            "read": ["letter"],
+            "forget": [],
+            "top": [],
+            "kept": [],
+        },
+    },
+    "roads": {
+        "Road": {
+            "__init__": ["pact"],
+            "do": ["deed"],
+            "letters": [],
+            "words": [],
+            "heads": [],
+            "top": [],
+            "kept": [],
+            "known": [],
+        },
+    },
 }
 
 
+def found(module, name):
+    return getattr(importlib.import_module("shorthead." + module), name)
+
+
 class Interface(unittest.TestCase):
+    def takes(self, function, arguments):
+        parameters = inspect.signature(function).parameters.values()
+        self.assertEqual([parameter.name for parameter in parameters], arguments)
+        for parameter in parameters:
+            self.assertEqual(parameter.kind, inspect.Parameter.POSITIONAL_OR_KEYWORD)
+
     def test_functions_and_their_arguments(self):
         for module, functions in FUNCTIONS.items():
             for name, arguments in functions.items():
                 with self.subTest(f"{module}.{name}"):
-                    function = getattr(importlib.import_module("shorthead." + module), name)
-                    parameters = inspect.signature(function).parameters.values()
-                    self.assertEqual([parameter.name for parameter in parameters], arguments)
-                    for parameter in parameters:
-                        self.assertEqual(parameter.kind, inspect.Parameter.POSITIONAL_OR_KEYWORD)
+                    self.takes(found(module, name), arguments)
+
+    def test_classes_their_methods_and_arguments(self):
+        for module, classes in CLASSES.items():
+            for name, methods in classes.items():
+                for method, arguments in methods.items():
+                    with self.subTest(f"{module}.{name}.{method}"):
+                        self.takes(getattr(found(module, name), method), ["self"] + arguments)
 
 
 if __name__ == "__main__":
