@@ -10,7 +10,12 @@ def is_pact(thing):
     if not is_row(thing, 4, 4):
         return False
     shape, wide, forms, road = thing
-    return is_shape(shape) and is_between(wide, 1, 40) and are_forms(shape, forms) and is_road(road)
+    return is_shape(shape) and is_wide(wide) and are_forms(shape, forms) and is_road(road)
+
+
+def is_wide(thing):
+    """Whether a thing is a width of a whole letter's number."""
+    return is_between(thing, 1, 40)
 
 
 def are_forms(shape, thing):

@@ -28,6 +28,9 @@ class PlainPresser:
         heard_since = [word[1] for _, word in self.words[since:] if word[0] == "have"]
         return (had, greatest(number for number in heard_since if number >= fresh), fresh)
 
+    def sent(self):
+        return len(self.heads)
+
     def formers(self, reach):
         n = len(self.heads)
         return tuple((more, self.heads[n - more]) for more in range(1, reach + 1) if n - more >= 0)
@@ -66,13 +69,16 @@ class PlainReader:
         self.forget()
 
     def forget(self):
-        self.top = None
+        self.highest = None
         self.read_so_far = {}
 
+    def top(self):
+        return self.highest
+
     def kept(self):
-        if self.top is None:
+        if self.highest is None:
             return {}
-        bound = self.top - self.pact[3][2]
+        bound = self.highest - self.pact[3][2]
         below = greatest(number for number in self.read_so_far if number < bound)
         return {n: self.read_so_far[n] for n in sorted(self.read_so_far) if n >= bound or n == below}
 
@@ -80,15 +86,15 @@ class PlainReader:
         if at is None:
             return rest
         count = self.pact[2][at][1]
-        least = self.top - self.pact[3][2]
+        least = self.highest - self.pact[3][2]
         return next(n for n in range(least, least + 2 ** count) if n % 2 ** count == rest)
 
     def read(self, letter):
         at, rest, bits, check = parted(self.pact, letter)
-        if at is not None and self.top is None:
+        if at is not None and self.highest is None:
             return ("not", "blank")
         n = self.number_of_letter(at, rest)
-        if n < 0 or self.top is not None and n < self.top - self.pact[3][2]:
+        if n < 0 or self.highest is not None and n < self.highest - self.pact[3][2]:
             return ("not", "late")
         if n in self.kept():
             return ("twice", n)
@@ -104,39 +110,45 @@ class PlainReader:
             form = self.pact[2][at]
             below = greatest(number for number in self.kept() if number < n)
             if below is None or below < n - form[0]:
-                self.top = max(self.top, n)
+                self.highest = max(self.highest, n)
                 return ("not", "far")
             head = opened(self.pact[0], form, bits, self.kept()[below], n - below)
         if check_of(self.pact[0], n, head) != check:
             return ("not", "check")
         self.read_so_far[n] = head
-        self.top = n if self.top is None else max(self.top, n)
+        self.highest = n if self.highest is None else max(self.highest, n)
         return ("read", n, head)
 
 
 class PlainRoad:
     """Deeds that are deeds alone; heads that are heads, and never too many."""
 
-    def __init__(self, pact):
+    def __init__(self, pact, presser, reader):
         self.pact = pact
-        self.presser = PlainPresser(pact)
-        self.reader = PlainReader(pact)
-        self.letters = []
-        self.words = []
+        self.presser = presser
+        self.reader = reader
+        self.row = []
+        self.back = []
         self.came = []
+
+    def letters(self):
+        return list(self.row)
+
+    def words(self):
+        return list(self.back)
 
     def do(self, deed):
         word, *rest = deed
         if word == "press":
-            number = len(self.presser.heads)
+            number = self.presser.sent()
             letter = self.presser.press(rest[0])
-            self.letters.append((number, letter))
+            self.row.append((number, letter))
             return ("sent", number, len(letter))
         if word == "forget":
             self.reader.forget()
             return ("done",)
+        row = self.row if word in ("come", "copy", "lose") else self.back
         k = rest[0]
-        row = self.letters if word in ("come", "copy", "lose") else self.words
         if k >= len(row):
             raise NoPlace("")
         told = ("done",)
@@ -150,13 +162,13 @@ class PlainRoad:
 
     def arrive(self, number, letter):
         _, gap, late, _ = self.pact[3]
-        sent_behind = [[n for n in range(number + 1, one + 1)] for one in self.came]
+        sent_behind = [list(range(number + 1, one + 1)) for one in self.came]
         if any(len(row) > late for row in sent_behind):
             raise Beyond("")
         of_form = parted(self.pact, letter)[0] is not None
-        if of_form and self.reader.top is not None and number > self.reader.top + gap + 1:
+        if of_form and self.reader.top() is not None and number > self.reader.top() + gap + 1:
             raise Beyond("")
         told = self.reader.read(letter)
         self.came.append(number)
-        self.words.append(("anew",) if told[0] == "not" else ("have", told[1]))
+        self.back.append(("anew",) if told[0] == "not" else ("have", told[1]))
         return told

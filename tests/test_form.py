@@ -42,8 +42,9 @@ def trees():
 
 
 def defined(tree):
-    """The names of the defs and classes at a file's top."""
-    return [row.name for row in tree.body if isinstance(row, (ast.FunctionDef, ast.ClassDef))]
+    """The names of the defs, classes and values at a file's top."""
+    names = [row.name for row in tree.body if isinstance(row, (ast.FunctionDef, ast.ClassDef))]
+    return names + [row.targets[0].id for row in tree.body if isinstance(row, ast.Assign)]
 
 
 def drawn_from(tree):
@@ -118,7 +119,8 @@ class Rows(unittest.TestCase):
     def test_no_local_is_called_like_a_name_of_its_files_top(self):
         for stem, tree in trees().items():
             top = set(defined(tree)) | {name for _, name in drawn_from(tree)}
-            for node in ast.walk(tree):
+            defs = [node for node in ast.walk(tree) if isinstance(node, ast.FunctionDef)]
+            for node in [within for one in defs for within in ast.walk(one)]:
                 if isinstance(node, ast.arg):
                     self.assertNotIn(node.arg, top, stem)
                 if isinstance(node, ast.Name) and isinstance(node.ctx, ast.Store):

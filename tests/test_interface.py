@@ -47,6 +47,20 @@ FUNCTIONS = {
     "readers": {
         "word_of": ["told"],
     },
+    "streams": {
+        "unbundled": ["pacts", "bits"],
+    },
+    "tables": {
+        "costs": ["pact", "heads"],
+        "proposed": ["shape", "heads", "reach", "count"],
+        "least_table": ["pact", "heads", "most"],
+    },
+    "texts": {
+        "show_pact": ["pact"],
+        "read_pact": ["text"],
+        "show_head": ["head"],
+        "read_head": ["shape", "text"],
+    },
 }
 
 CLASSES = {
@@ -81,6 +95,24 @@ CLASSES = {
             "top": [],
             "kept": [],
             "known": [],
+        },
+    },
+    "streams": {
+        "Sender": {
+            "__init__": ["pacts"],
+            "press": ["stream", "head"],
+            "heard": ["stream", "word"],
+        },
+        "Receiver": {
+            "__init__": ["pacts"],
+            "read": ["bits"],
+            "forget": ["stream"],
+        },
+    },
+    "desk": {
+        "Desk": {
+            "__init__": ["text"],
+            "say": ["line"],
         },
     },
 }

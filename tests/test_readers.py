@@ -312,7 +312,7 @@ class Drawn(unittest.TestCase):
                     letter = pressed_letter(pact, drawn.randrange(len(pact[2])), number, head)
                 told = reader.read(letter)
                 self.assertEqual(told, plain.read(letter))
-                self.assertEqual(reader.top(), plain.top)
+                self.assertEqual(reader.top(), plain.top())
                 self.assertEqual(list(reader.kept().items()), list(plain.kept().items()))
                 seen[told[:2] if told[0] == "not" else told[0]] = True
                 if drawn.randrange(60) == 0:
